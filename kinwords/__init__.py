@@ -1,0 +1,1 @@
+"""Kinwords: sayings about kinds, and what follows from them."""
