@@ -36,6 +36,15 @@ def trees():
         yield path.name, text, ast.parse(text)
 
 
+def names_of_top(tree):
+    """The names that a file's top gives itself, each as often as it does."""
+    names = [node.name for node in tree.body if isinstance(node, (ast.FunctionDef, ast.ClassDef))]
+    for node in tree.body:
+        if isinstance(node, ast.Assign):
+            names.extend([target.id for target in node.targets])
+    return names
+
+
 class Files(unittest.TestCase):
     def test_nothing_else_lies_there(self):
         for path in PACKAGE.iterdir():
@@ -91,6 +100,34 @@ class Nodes(unittest.TestCase):
             for node in every:
                 self.assertEqual(node.level, 0, name)
                 self.assertRegex(node.module, r"^kinwords\.[a-z]+$", name)
+
+    def test_names_are_drawn_from_the_file_that_defines_them(self):
+        defined = {name[:-3]: names_of_top(tree) for name, text, tree in trees()}
+        for name, text, tree in trees():
+            for node in tree.body:
+                if isinstance(node, ast.ImportFrom):
+                    for alias in node.names:
+                        self.assertIn(alias.name, defined[node.module.split(".")[1]], name)
+
+    def test_no_two_files_draw_from_one_another(self):
+        drawn = {name[:-3]: {node.module.split(".")[1] for node in tree.body if isinstance(node, ast.ImportFrom)}
+                 for name, text, tree in trees()}
+        while drawn:
+            free = [name for name, needed in drawn.items() if not needed & set(drawn)]
+            self.assertTrue(free, sorted(drawn))
+            for name in free:
+                del drawn[name]
+
+    def test_the_top_of_a_file(self):
+        for name, text, tree in trees():
+            names = names_of_top(tree) + [alias.name for node in tree.body if isinstance(node, ast.ImportFrom)
+                                          for alias in node.names]
+            self.assertEqual(len(names), len(set(names)), name)
+            for node in tree.body:
+                if isinstance(node, ast.Assign):
+                    for part in ast.walk(node.value):
+                        if part is not node.value:
+                            self.assertNotIsInstance(part, (ast.List, ast.Dict, ast.Set, ast.Call), (name, node.lineno))
 
     def test_names(self):
         for name, text, tree in trees():
