@@ -1,5 +1,6 @@
 """Points [4], [5], [6], [10], [11]: sayings as texts."""
 
+import copy
 import itertools
 import random
 import re
@@ -96,6 +97,12 @@ class Show(unittest.TestCase):
 
     def test_a_saying_beyond_the_bound_is_written_too(self):
         self.assertEqual(show(("thing", "Ann", nested(30)[2])), "Ann is " + "(some r " * 30 + "a" + ")" * 30)
+
+    def test_what_is_handed_in_is_as_it_was(self):
+        for saying, text in SIX + MORE:
+            before = copy.deepcopy(saying)
+            show(saying)
+            self.assertEqual(saying, before)
 
 
 class Read(unittest.TestCase):
