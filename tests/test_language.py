@@ -156,6 +156,17 @@ class Nodes(unittest.TestCase):
                 if isinstance(node, ast.Call) and isinstance(node.func, ast.Attribute):
                     self.assertIn(node.func.attr, METHODS | own, (name, node.lineno))
 
+    def test_no_name_is_a_method_and_a_value(self):
+        methods, values = set(), set()
+        for name, text, tree in trees():
+            for node in ast.walk(tree):
+                if isinstance(node, ast.ClassDef):
+                    methods |= {part.name for part in node.body if isinstance(part, ast.FunctionDef)}
+                if isinstance(node, ast.Attribute) and isinstance(node.ctx, ast.Store):
+                    values.add(node.attr)
+        self.assertEqual(methods & values, set())
+        self.assertEqual(values & METHODS, set())
+
 
 if __name__ == "__main__":
     unittest.main()
