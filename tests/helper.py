@@ -136,3 +136,48 @@ def numbered(*sayings):
 
 def facts_of(steps):
     return [step[0] for step in steps]
+
+
+def is_right_besides(steps, at):
+    """Whether a step is right by one of the two rules that only answers have."""
+    fact, rule, froms, number = steps[at]
+    if rule not in ("void", "clash") or number is not None or len(froms) != 1 or not 0 <= froms[0] < at:
+        return False
+    origin = steps[froms[0]][0]
+    if origin[0] != "is" or origin[2] != "nothing":
+        return False
+    return fact[1] == origin[1] if rule == "void" else is_thing_name(origin[1])
+
+
+def all_choices(pairs):
+    """All lists of pairs that have some of these, in their order."""
+    whole = [[]]
+    for pair in pairs:
+        whole += [choice + [pair] for choice in whole]
+    return whole
+
+
+def plain_order(lists):
+    return sorted(lists, key=lambda numbers: (len(numbers), numbers))
+
+
+def slow_least(pairs, lets_follow):
+    """All least sets: those choices that let follow, and none that is a part of them does."""
+    enough = [[number for number, saying in choice] for choice in all_choices(pairs) if lets_follow(choice)]
+    return plain_order([one for one in enough if not any(set(other) < set(one) for other in enough)])
+
+
+def slow_cuts(pairs, lets_follow):
+    """All cuts: those choices without which the others do not let follow, and none that is a part of them is one."""
+    cut = []
+    for choice in all_choices(pairs):
+        if not lets_follow([pair for pair in pairs if pair not in choice]):
+            cut.append([number for number, saying in choice])
+    return plain_order([one for one in cut if not any(set(other) < set(one) for other in cut)])
+
+
+def drawn_question(source, kinds=None, ties=None, things=None):
+    while True:
+        question = drawn_saying(source, kinds, ties, things)
+        if question[0] not in ("within", "makes"):
+            return question
